@@ -1,0 +1,1 @@
+"""Benchworth: stretches of time with worths, on so many benches."""
