@@ -1,6 +1,6 @@
 """Some of a book, rising lists of numbers of its stretches, and choices among them."""
 
-from benchworth.books import is_over
+from benchworth.loads import crowd_of
 from benchworth.names import is_whole_within
 
 
@@ -16,16 +16,9 @@ def is_some(book, thing):
     return True
 
 
-def greatest_load(book, some):
-    """The greatest load of some: it is reached where one of them begins."""
-    stretches = [book[number] for number in some]
-    loads = [len([other for other in stretches if is_over(other, one[1])]) for one in stretches]
-    return max(loads, default=0)
-
-
 def is_choice(book, benches, thing):
     """Whether anything is a choice of the book for so many benches."""
-    return is_some(book, thing) and greatest_load(book, thing) <= benches
+    return is_some(book, thing) and crowd_of(book, thing)[0] <= benches
 
 
 def worth_of(book, some):

@@ -93,8 +93,43 @@ def alike(one, other):
     return True
 
 
+class TooLate(KeyboardInterrupt):
+    """What a subTest does not swallow: it would go on with the next one, and nothing would stop that."""
+
+
+@contextmanager
+def soon(seconds=20):
+    """Fails what goes through moments or lists one by one, or writes them all down."""
+    def too_late(signum, frame):
+        raise TooLate()
+
+    limits = resource.getrlimit(resource.RLIMIT_AS)
+    earlier = signal.signal(signal.SIGALRM, too_late)
+    most = 4 * 2 ** 30
+    soft = most if limits[0] == resource.RLIM_INFINITY else min(most, limits[0])
+    resource.setrlimit(resource.RLIMIT_AS, (soft, limits[1]))
+    signal.alarm(seconds)
+    try:
+        yield
+    except TooLate:
+        raise AssertionError(f"this took more than {seconds} seconds") from None
+    finally:
+        signal.alarm(0)
+        signal.signal(signal.SIGALRM, earlier)
+        resource.setrlimit(resource.RLIMIT_AS, limits)
+
+
 class Told:
-    """For test cases: looks at what a question tells, and at what it does to what it is handed."""
+    """For test cases: looks at what a question tells, and at what it does to what it is handed.
+
+    Each of their tests has to end soon: moments and lists of benches are too many to be gone through.
+    """
+
+    def __init_subclass__(cls):
+        super().__init_subclass__()
+        for name, method in list(vars(cls).items()):
+            if name.startswith("test_"):
+                setattr(cls, name, soon()(method))
 
     def assert_alike(self, told, expected):
         self.assertTrue(alike(told, expected), f"told {told!r}, expected {expected!r}")
@@ -130,21 +165,26 @@ class Told:
         return caught.exception
 
 
-@contextmanager
-def soon(seconds=60):
-    """Fails what goes through moments or lists one by one, or writes them all down."""
-    def too_late(signum, frame):
-        raise AssertionError("this took too long")
+def meet_by_hand(one, other):
+    return max(one[1], other[1]) < min(one[2], other[2])
 
-    limits = resource.getrlimit(resource.RLIMIT_AS)
-    earlier = signal.signal(signal.SIGALRM, too_late)
-    most = 4 * 2 ** 30
-    soft = most if limits[0] == resource.RLIM_INFINITY else min(most, limits[0])
-    resource.setrlimit(resource.RLIMIT_AS, (soft, limits[1]))
-    signal.alarm(seconds)
-    try:
-        yield
-    finally:
-        signal.alarm(0)
-        signal.signal(signal.SIGALRM, earlier)
-        resource.setrlimit(resource.RLIMIT_AS, limits)
+
+def seats_by_hand(book, some, benches, seats):
+    """Whether a list of benches is seats for some, each pair looked at."""
+    if len(seats) != len(some) or not all(type(bench) is int and 0 <= bench < benches for bench in seats):
+        return False
+    return not any(seats[k] == seats[j] and meet_by_hand(book[some[k]], book[some[j]])
+                   for k in range(len(some)) for j in range(k))
+
+
+def worth_by_hand(book, some):
+    return sum(book[i][3] for i in some)
+
+
+def toll_by_hand(stretch, paper):
+    return sum(price for moment, price in paper if stretch[1] <= moment and moment < stretch[2])
+
+
+def drawn_paper(draw, most=5, last=9):
+    moments = sorted(draw.sample(range(-last - 1, last + 1), draw.randint(0, most)))
+    return [(moment, draw.randint(1, 9)) for moment in moments]

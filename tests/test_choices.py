@@ -4,7 +4,7 @@ import unittest
 
 from benchworth.choices import is_choice, worth_of
 from tests.common import (FAR, NAMES, ODD_THINGS, SIXTY, Told, drawn_books, every_some, greatest_by_hand, piled_book,
-                          soon, whole_book)
+                          whole_book)
 
 BOOK = [("a", 0, 5, 10), ("b", 5, 9, 20), ("c", 4, 6, 40), ("d", 0, 9, 0), ("e", 20, 30, 80)]
 
@@ -71,22 +71,20 @@ class Choices(Told, unittest.TestCase):
             self.wrong(BOOK, 0, [number])
 
     def test_twenty_four_over_one_moment(self):
-        with soon():
-            piled = piled_book()
-            every = list(range(24))
-            self.right(piled, 24, every)
-            self.wrong(piled, 23, every)
-            self.right(piled, 23, every[1:])
-            self.wrong(piled, 0, [5])
-            self.right(piled, 1, [5])
-            self.wrong(piled, 1, [5, 9])
+        piled = piled_book()
+        every = list(range(24))
+        self.right(piled, 24, every)
+        self.wrong(piled, 23, every)
+        self.right(piled, 23, every[1:])
+        self.wrong(piled, 0, [5])
+        self.right(piled, 1, [5])
+        self.wrong(piled, 1, [5, 9])
 
     def test_a_crowd_that_is_there_for_one_moment(self):
         book = [("a", -FAR, 1, 1), ("b", 0, FAR, 1), ("c", 1, FAR, 1)]
-        with soon():
-            self.wrong(book, 1, [0, 1])
-            self.right(book, 1, [0, 2])
-            self.right(book, 2, [0, 1, 2])
+        self.wrong(book, 1, [0, 1])
+        self.right(book, 1, [0, 2])
+        self.right(book, 2, [0, 1, 2])
 
     def test_against_loads_by_hand(self):
         for book in drawn_books(21, 30, most=5):

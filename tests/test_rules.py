@@ -18,7 +18,8 @@ ALLOWED_DUNDERS = set("""__init__ __eq__ __repr__ __str__ __len__ __enter__ __ex
 BARRED_WORDS = set("""type typing typing_extensions enum Enum IntEnum StrEnum Flag IntFlag Generic Protocol ABC ABCMeta
     namedtuple NamedTuple TypedDict TYPE_CHECKING abstractmethod""".split())
 BARRED_PARTS = ("dataclass", "overload", "contextmanager")
-BARRED_NAMES = set("""register mro elements open input version_info with_traceback add_note format format_map""".split())
+BARRED_NAMES = set("""register mro elements open input version_info with_traceback add_note format
+    format_map""".split())
 BARRED_NODES = (ast.Global, ast.AsyncFunctionDef, ast.AsyncFor, ast.AsyncWith, ast.Await, ast.NamedExpr, ast.Div,
                 ast.MatMult, ast.Import)
 MODULE_NODES = (ast.ImportFrom, ast.FunctionDef, ast.ClassDef, ast.Assign, ast.AnnAssign)
@@ -48,7 +49,8 @@ def bound_names(tree):
 def local_names(tree):
     """The names of parameters and variables: a method may be called like a builtin, these may not."""
     found = {node.arg for node in ast.walk(tree) if isinstance(node, ast.arg)}
-    return found | {node.id for node in ast.walk(tree) if isinstance(node, ast.Name) and isinstance(node.ctx, ast.Store)}
+    names = [node for node in ast.walk(tree) if isinstance(node, ast.Name)]
+    return found | {node.id for node in names if isinstance(node.ctx, ast.Store)}
 
 
 def package_imports(tree):

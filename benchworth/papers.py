@@ -1,0 +1,40 @@
+"""Papers, lists of tuples (moment, price), and what they claim."""
+
+from benchworth.books import FARTHEST, is_over
+from benchworth.names import is_whole_within
+
+GREATEST_PRICE = 10 ** 13
+MOST_PRICES = 48
+
+
+def is_price(thing):
+    """Whether anything is a tuple (moment, price) as a paper may have it."""
+    if not isinstance(thing, tuple) or len(thing) != 2:
+        return False
+    moment, price = thing
+    return is_whole_within(moment, -FARTHEST, FARTHEST - 1) and is_whole_within(price, 1, GREATEST_PRICE)
+
+
+def is_paper(thing):
+    """Whether anything is a paper."""
+    if not isinstance(thing, list) or len(thing) > MOST_PRICES:
+        return False
+    if not all(is_price(part) for part in thing):
+        return False
+    return all(thing[at][0] < thing[at + 1][0] for at in range(len(thing) - 1))
+
+
+def toll_of(stretch, paper):
+    """The prices of the moments that the stretch is over, together."""
+    return sum([price for moment, price in paper if is_over(stretch, moment)])
+
+
+def rest_of(stretch, paper):
+    """What the stretch is worth beyond its toll, 0 where that is below 0."""
+    return max(0, stretch[3] - toll_of(stretch, paper))
+
+
+def claim(book, benches, paper):
+    """What the paper claims of the book for so many benches: no choice is worth more."""
+    prices = sum([price for moment, price in paper])
+    return prices * benches + sum([rest_of(stretch, paper) for stretch in book])
