@@ -15,13 +15,16 @@ def is_price(thing):
     return is_whole_within(moment, -FARTHEST, FARTHEST - 1) and is_whole_within(price, 1, GREATEST_PRICE)
 
 
+def are_rising(steps):
+    """Whether the moments, with which the steps begin, rise."""
+    return all(steps[at][0] < steps[at + 1][0] for at in range(len(steps) - 1))
+
+
 def is_paper(thing):
     """Whether anything is a paper."""
     if not isinstance(thing, list) or len(thing) > MOST_PRICES:
         return False
-    if not all(is_price(part) for part in thing):
-        return False
-    return all(thing[at][0] < thing[at + 1][0] for at in range(len(thing) - 1))
+    return all(is_price(part) for part in thing) and are_rising(thing)
 
 
 def toll_of(stretch, paper):

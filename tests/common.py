@@ -188,3 +188,122 @@ def toll_by_hand(stretch, paper):
 def drawn_paper(draw, most=5, last=9):
     moments = sorted(draw.sample(range(-last - 1, last + 1), draw.randint(0, most)))
     return [(moment, draw.randint(1, 9)) for moment in moments]
+
+
+def some_by_hand(book, thing):
+    """Whether anything is some of the book."""
+    return (type(thing) is list and all(type(i) is int and 0 <= i < len(book) for i in thing)
+            and all(i < j for i, j in zip(thing, thing[1:])))
+
+
+def peak_by_hand(book, some):
+    """The greatest load, also of stretches that are over too many moments to go through: it is at a begin."""
+    return max([load_by_hand(book, some, book[i][1]) for i in some], default=0)
+
+
+def choice_by_hand(book, benches, thing):
+    return some_by_hand(book, thing) and peak_by_hand(book, thing) <= benches
+
+
+def paper_by_hand(thing):
+    """Whether anything is a paper."""
+    if type(thing) is not list or len(thing) > 48:
+        return False
+    for part in thing:
+        if type(part) is not tuple or len(part) != 2 or type(part[0]) is not int or type(part[1]) is not int:
+            return False
+        if not (-FAR <= part[0] < FAR and 1 <= part[1] <= 10 * FAR):
+            return False
+    return all(one[0] < other[0] for one, other in zip(thing, thing[1:]))
+
+
+def rests_by_hand(book, paper):
+    return sum(max(stretch[3] - toll_by_hand(stretch, paper), 0) for stretch in book)
+
+
+def claim_by_hand(book, benches, paper):
+    return sum(price * benches for moment, price in paper) + rests_by_hand(book, paper)
+
+
+def most_by_hand(book, benches):
+    """The most of a small book: all choices are weighed."""
+    return max(worth_by_hand(book, some) for some in every_some(book) if peak_by_hand(book, some) <= benches)
+
+
+def modest_by_hand(book, paper):
+    """Whether a paper has no more than forty-seven prices, each where stretches are, none above all their worths."""
+    if len(paper) > 47:
+        return False
+    over = [[stretch[3] for stretch in book if stretch[1] <= moment and moment < stretch[2]] for moment, price in paper]
+    return all(worths and price <= max(worths) for worths, (moment, price) in zip(over, paper))
+
+
+def others_for(part):
+    """Things to stand in the stead of one: near it, of another kind, or nothing like it."""
+    if type(part) is int:
+        return [part + 1, part - 1, -part - 7, True, False, None, str(part), [part], (part,)]
+    if type(part) is str:
+        return [part + "s", part[:-1], part.upper(), "", None, 0, True, part.encode(), [part], (part,)]
+    if type(part) is list:
+        return [part[:-1], part[1:], part + part[-1:], part + [0], part + [()], part + [[]], part[::-1], [part], [],
+                tuple(part), (part,), None, 0, True, False, "", {}, dict.fromkeys(range(len(part)))]
+    if type(part) is tuple:
+        return [part[:-1], part[1:], part + part[-1:], part + (0,), part + ([],), part[::-1], (part,), (),
+                list(part), [part], None, 0, True, False, "", {}]
+    return [0, 1, True, False, "", [], ()]
+
+
+def otherwise(thing):
+    """The thing with one thing in it otherwise, each in many ways."""
+    found = list(others_for(thing))
+    if isinstance(thing, (list, tuple)):
+        for at, part in enumerate(thing):
+            for other in otherwise(part):
+                changed = list(deepcopy(thing))
+                changed[at] = deepcopy(other)
+                found.append(type(thing)(changed))
+    return [one for one in found if not alike(one, thing)]
+
+
+def drawn_far_book(draw, many=24, worths=(0, FAR)):
+    """So many stretches, no two begins or ends alike, over very many moments."""
+    moments = draw.sample(range(-FAR, FAR + 1), 2 * many)
+    ends = [sorted(moments[2 * i:2 * i + 2]) for i in range(many)]
+    return [(NAMES[i], begin, end, draw.randint(*worths)) for i, (begin, end) in enumerate(ends)]
+
+
+def step_by_hand(book, benches, thing):
+    return (type(thing) is tuple and len(thing) == 2 and type(thing[0]) is int
+            and choice_by_hand(book, benches, thing[1]) and worth_by_hand(book, thing[1]) == thing[0])
+
+
+def row_by_hand(book, thing):
+    """Whether anything is a row of the book."""
+    if type(thing) is not tuple or len(thing) != 3 or type(thing[0]) is not str or thing[0] != "row":
+        return False
+    word, steps, papers = thing
+    last = peak_by_hand(book, range(len(book)))
+    if type(steps) is not list or type(papers) is not list or len(steps) != last + 1 or len(papers) != last + 1:
+        return False
+    if not all(step_by_hand(book, k, steps[k]) for k in range(last + 1)):
+        return False
+    if not all(paper_by_hand(paper) for paper in papers) or papers[last]:
+        return False
+    return (all(claim_by_hand(book, k, papers[k]) == steps[k][0] for k in range(last + 1))
+            and all(claim_by_hand(book, k + 1, papers[k]) == steps[k + 1][0] for k in range(last)))
+
+
+def bound_by_hand(bounds, moment):
+    return ([0] + [bound for begin, bound in bounds if begin <= moment])[-1]
+
+
+def keeps_by_hand(book, bounds, some):
+    """Whether some keep the bounds: begins and steps are looked at, and the moments beside them."""
+    moments = [moment for i in some for moment in book[i][1:3]] + [moment for moment, bound in bounds]
+    return all(load_by_hand(book, some, near) <= bound_by_hand(bounds, near)
+               for moment in moments for near in (moment - 1, moment, moment + 1))
+
+
+def drawn_bounds(draw, most=4, last=9, greatest=3):
+    moments = sorted(draw.sample(range(-last - 2, last + 3), draw.randint(1, most)))
+    return [(moment, draw.randint(0, greatest)) for moment in moments]
