@@ -28,11 +28,14 @@ def meet(one, other):
     return one[1] < other[2] and other[1] < one[2]
 
 
+def is_name_new(stretches, number):
+    """Whether no stretch ahead of the one of this number has its name."""
+    return stretches[number][0] not in [stretch[0] for stretch in stretches[:number]]
+
+
 def can_stand(things, number):
     """Whether the thing of this number can stand in a book behind those ahead of it."""
-    if number >= MOST_STRETCHES or not is_stretch(things[number]):
-        return False
-    return things[number][0] not in [stretch[0] for stretch in things[:number]]
+    return number < MOST_STRETCHES and is_stretch(things[number]) and is_name_new(things, number)
 
 
 def look_at_book(thing):

@@ -27,9 +27,14 @@ def greatest_load(book):
     return crowd_of(book, list(range(len(book))))[0]
 
 
+def best_for(book, benches):
+    """A best choice for so many benches, with a paper that claims the most for these and for one more."""
+    return best_up_to(book, min(benches, greatest_load(book)))[-1]
+
+
 def most_of(book, benches):
     """The most for so many benches: its worth, a choice of this worth, a paper that claims just it."""
-    choice, paper = best_up_to(book, min(benches, greatest_load(book)))[-1]
+    choice, paper = best_for(book, benches)
     return (worth_of(book, choice), choice, paper)
 
 

@@ -37,7 +37,16 @@ def rest_of(stretch, paper):
     return max(0, stretch[3] - toll_of(stretch, paper))
 
 
+def rests_of(book, paper):
+    """The rests of all stretches of the book, together."""
+    return sum([rest_of(stretch, paper) for stretch in book])
+
+
+def prices_of(paper):
+    """The paper's prices, together."""
+    return sum([price for moment, price in paper])
+
+
 def claim(book, benches, paper):
     """What the paper claims of the book for so many benches: no choice is worth more."""
-    prices = sum([price for moment, price in paper])
-    return prices * benches + sum([rest_of(stretch, paper) for stretch in book])
+    return prices_of(paper) * benches + rests_of(book, paper)

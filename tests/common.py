@@ -307,3 +307,35 @@ def keeps_by_hand(book, bounds, some):
 def drawn_bounds(draw, most=4, last=9, greatest=3):
     moments = sorted(draw.sample(range(-last - 2, last + 3), draw.randint(1, most)))
     return [(moment, draw.randint(0, greatest)) for moment in moments]
+
+
+def claim_within_by_hand(book, bounds, paper):
+    return sum(price * bound_by_hand(bounds, moment) for moment, price in paper) + rests_by_hand(book, paper)
+
+
+def most_within_by_hand(book, bounds):
+    """The most of a small book within bounds: all some that keep them are weighed."""
+    return max(worth_by_hand(book, some) for some in every_some(book) if keeps_by_hand(book, bounds, some))
+
+
+def under_by_hand(ring, i):
+    """The moments of the ring that the stretch is over, one step behind the other."""
+    size, stretches = ring
+    name, begin, span, worth = stretches[i]
+    return [begin + k if begin + k < size else begin + k - size for k in range(span)]
+
+
+def ring_load_by_hand(ring, some, moment):
+    return len([i for i in some if moment in under_by_hand(ring, i)])
+
+
+def ring_rests_by_hand(ring, paper):
+    tolls = [sum(price for moment, price in paper if moment in under_by_hand(ring, i)) for i in range(len(ring[1]))]
+    return sum(max(stretch[3] - toll, 0) for stretch, toll in zip(ring[1], tolls))
+
+
+def drawn_ring(draw, most=5, size=8):
+    """A small ring by a seeded source."""
+    size = draw.randint(1, size)
+    spans = [draw.choice([1, size, draw.randint(1, size)]) for _ in range(draw.randint(0, most))]
+    return (size, [(NAMES[i], draw.randrange(size), span, draw.randint(0, 9)) for i, span in enumerate(spans)])

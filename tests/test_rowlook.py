@@ -170,8 +170,9 @@ class LooksAtRows(Told, unittest.TestCase):
     def test_another_form(self):
         word, steps, papers = ROW
         for thing in (list(ROW), ROW[:2], ROW + ([],), (steps, papers), (word, papers, steps), (ROW,), [ROW],
-                      (word, tuple(steps), papers), (word, steps, tuple(papers)), (word, dict(enumerate(steps)), papers),
-                      (word, steps, dict(enumerate(papers))), (word, None, papers), (word, steps, None),
+                      (word, tuple(steps), papers), (word, steps, tuple(papers)),
+                      (word, dict(enumerate(steps)), papers), (word, steps, dict(enumerate(papers))),
+                      (word, None, papers), (word, steps, None),
                       (word, 4, papers), (word, steps, "abcd"), (word, "abcd", papers)):
             self.wrong(BOOK, thing)
         for at, step in enumerate(steps):
@@ -180,7 +181,8 @@ class LooksAtRows(Told, unittest.TestCase):
 
     def test_other_things(self):
         for thing in ODD_THINGS + [[], [1], 0, 1, -1, SIXTY, "row", ("row",), ("row", []), ("row", 1, 2),
-                                   ("row", [], []), ("row", None, None), {"row": [], 1: 2, 3: 4}, [[]] * 3, ((), (), ())]:
+                                   ("row", [], []), ("row", None, None), {"row": [], 1: 2, 3: 4}, [[]] * 3,
+                                   ((), (), ())]:
             for book in ([], BOOK):
                 self.wrong(book, thing)
 
