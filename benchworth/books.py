@@ -1,6 +1,7 @@
 """Stretches, tuples (name, begin, end, worth), and books of them."""
 
 from benchworth.errors import NoBook
+from benchworth.forms import is_tuple_of
 from benchworth.names import is_name, is_whole_within
 
 FARTHEST = 10 ** 12
@@ -10,7 +11,7 @@ MOST_STRETCHES = 24
 
 def is_stretch(thing):
     """Whether anything is a stretch."""
-    if not isinstance(thing, tuple) or len(thing) != 4:
+    if not is_tuple_of(thing, 4):
         return False
     name, begin, end, worth = thing
     if not is_whole_within(begin, -FARTHEST, FARTHEST) or not is_whole_within(end, -FARTHEST, FARTHEST):

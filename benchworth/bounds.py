@@ -1,6 +1,7 @@
 """Bounds, lists of tuples (moment, bound): from this moment on so many may be there."""
 
 from benchworth.books import FARTHEST
+from benchworth.forms import is_tuple_of
 from benchworth.loads import load_at
 from benchworth.names import is_whole_within
 from benchworth.papers import are_rising
@@ -11,7 +12,7 @@ MOST_BOUNDS = 24
 
 def is_bound(thing):
     """Whether anything is a tuple (moment, bound) as bounds may have it."""
-    if not isinstance(thing, tuple) or len(thing) != 2:
+    if not is_tuple_of(thing, 2):
         return False
     moment, bound = thing
     return is_whole_within(moment, -FARTHEST, FARTHEST) and is_whole_within(bound, 0, GREATEST_BOUND)

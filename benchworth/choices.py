@@ -4,16 +4,21 @@ from benchworth.loads import crowd_of
 from benchworth.names import is_whole_within
 
 
-def is_some(book, thing):
-    """Whether anything is some of the book."""
+def are_numbers(thing, many):
+    """Whether anything is a list of whole numbers, from 0 to less than so many, rising."""
     if not isinstance(thing, list):
         return False
     least = 0
     for number in thing:
-        if not is_whole_within(number, least, len(book) - 1):
+        if not is_whole_within(number, least, many - 1):
             return False
         least = number + 1
     return True
+
+
+def is_some(book, thing):
+    """Whether anything is some of the book."""
+    return are_numbers(thing, len(book))
 
 
 def is_choice(book, benches, thing):

@@ -1,6 +1,7 @@
 """Papers, lists of tuples (moment, price), and what they claim."""
 
 from benchworth.books import FARTHEST, is_over
+from benchworth.forms import is_tuple_of
 from benchworth.names import is_whole_within
 
 GREATEST_PRICE = 10 ** 13
@@ -9,7 +10,7 @@ MOST_PRICES = 48
 
 def is_price(thing):
     """Whether anything is a tuple (moment, price) as a paper may have it."""
-    if not isinstance(thing, tuple) or len(thing) != 2:
+    if not is_tuple_of(thing, 2):
         return False
     moment, price = thing
     return is_whole_within(moment, -FARTHEST, FARTHEST - 1) and is_whole_within(price, 1, GREATEST_PRICE)

@@ -3,6 +3,7 @@
 from benchworth.books import GREATEST_WORTH, MOST_STRETCHES, is_name_new
 from benchworth.choices import is_some
 from benchworth.errors import NoRing
+from benchworth.forms import is_tuple_of
 from benchworth.names import is_name, is_whole_within
 from benchworth.papers import is_paper, prices_of
 
@@ -11,7 +12,7 @@ GREATEST_SIZE = 40
 
 def is_ring_stretch(size, thing):
     """Whether anything is a tuple (name, begin, span, worth) as a ring of this size may have it."""
-    if not isinstance(thing, tuple) or len(thing) != 4:
+    if not is_tuple_of(thing, 4):
         return False
     name, begin, span, worth = thing
     if not is_whole_within(begin, 0, size - 1) or not is_whole_within(span, 1, size):
@@ -21,7 +22,7 @@ def is_ring_stretch(size, thing):
 
 def look_at_ring(thing):
     """Tells None of a ring; anything else is refused with NoRing."""
-    if not isinstance(thing, tuple) or len(thing) != 2:
+    if not is_tuple_of(thing, 2):
         raise NoRing(None)
     size, stretches = thing
     if not is_whole_within(size, 1, GREATEST_SIZE) or not isinstance(stretches, list):

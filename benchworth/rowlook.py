@@ -1,19 +1,15 @@
 """Looks at rows, whoever wrote them."""
 
 from benchworth.choices import is_choice, worth_of
+from benchworth.forms import is_list_of, is_tuple_of, is_word_tuple
 from benchworth.most import greatest_load
 from benchworth.names import is_whole
 from benchworth.papers import claim, is_paper
 
 
-def is_list_of(thing, many):
-    """Whether anything is a list of so many things."""
-    return isinstance(thing, list) and len(thing) == many
-
-
 def is_step(book, benches, thing):
     """Whether anything is a tuple (worth, choice), the choice one for so many benches, of this worth."""
-    if not isinstance(thing, tuple) or len(thing) != 2:
+    if not is_tuple_of(thing, 2):
         return False
     worth, choice = thing
     return is_whole(worth) and is_choice(book, benches, choice) and worth_of(book, choice) == worth
@@ -40,7 +36,7 @@ def are_papers_for(book, steps, thing):
 
 def lets_row(book, thing):
     """Whether anything is a row of the book."""
-    if not isinstance(thing, tuple) or len(thing) != 3 or thing[0] != "row":
+    if not is_word_tuple(thing, "row", 3):
         return False
     word, steps, papers = thing
     return are_steps(book, steps, greatest_load(book) + 1) and are_papers_for(book, steps, papers)

@@ -3,6 +3,7 @@
 from benchworth.bounded import claim_within
 from benchworth.bounds import keeps
 from benchworth.choices import is_choice, is_some, worth_of
+from benchworth.forms import is_tuple_of, is_word_tuple
 from benchworth.names import is_whole
 from benchworth.papers import claim, is_paper
 from benchworth.wanted import beside, rest_of_book
@@ -10,7 +11,7 @@ from benchworth.wanted import beside, rest_of_book
 
 def is_most(book, thing):
     """Whether anything is a tuple (worth, some, paper), some of the book of this worth and a paper."""
-    if not isinstance(thing, tuple) or len(thing) != 3:
+    if not is_tuple_of(thing, 3):
         return False
     worth, some, paper = thing
     return is_whole(worth) and is_some(book, some) and worth_of(book, some) == worth and is_paper(paper)
@@ -36,7 +37,7 @@ def lets_wanted(book, benches, i, thing):
     """Whether anything is right as what the stretch would have to be worth; None just where there are no benches."""
     if benches == 0:
         return thing is None
-    if not isinstance(thing, tuple) or len(thing) != 4 or thing[0] != "wanted":
+    if not is_word_tuple(thing, "wanted", 4):
         return False
     word, least, without, along = thing
     others = rest_of_book(book, i)

@@ -8,7 +8,7 @@ import resource
 import signal
 from contextlib import contextmanager
 from copy import deepcopy
-from itertools import combinations
+from itertools import combinations, product
 
 FAR = 10 ** 12
 SIXTY = int("9" * 60)
@@ -339,3 +339,214 @@ def drawn_ring(draw, most=5, size=8):
     size = draw.randint(1, size)
     spans = [draw.choice([1, size, draw.randint(1, size)]) for _ in range(draw.randint(0, most))]
     return (size, [(NAMES[i], draw.randrange(size), span, draw.randint(0, 9)) for i, span in enumerate(spans)])
+
+
+def ring_choices_by_hand(ring, benches):
+    """All choices of a small ring for so many benches."""
+    return [some for some in every_some(ring[1])
+            if all(ring_load_by_hand(ring, some, moment) <= benches for moment in range(ring[0]))]
+
+
+def ring_paper_by_hand(ring, thing):
+    return paper_by_hand(thing) and all(0 <= moment < ring[0] for moment, price in thing)
+
+
+class NoTreeByHand(Exception):
+    """The way to the first thing that can't stand in a tree."""
+
+
+def told_of_tree(look, tree):
+    """("claims", what a tree claims) or ("way", the way to its first fault).
+
+    look tells of a thing and what is done where it stands what it claims, None where that is nothing, False of
+    what can't stand there; and it writes down the things beneath it, each with what is done there.
+    """
+    come_to, claims = [], []
+
+    def go(thing, done, way):
+        come_to.append(way)
+        beneath = []
+        claimed = look(thing, done, beneath)
+        if claimed is False or len(come_to) > 500:
+            raise NoTreeByHand(way)
+        if claimed is not None:
+            claims.append(claimed)
+        for number, (tree_there, done_there) in enumerate(beneath):
+            go(tree_there, done_there, way + [number])
+
+    try:
+        go(tree, (), [])
+    except NoTreeByHand as fault:
+        return ("way", fault.args[0])
+    return ("claims", max(claims))
+
+
+def is_number_by_hand(thing, many):
+    return type(thing) is int and 0 <= thing < many
+
+
+def ring_tree_by_hand(ring, benches, tree):
+    """What a tree for a ring claims, or the way to its first fault; done is a tuple of (number, whether in)."""
+    size, stretches = ring
+
+    def look(thing, done, beneath):
+        inside = [i for i, is_in in done if is_in]
+        decided = [i for i, is_in in done]
+        if type(thing) is not tuple or len(thing) not in (2, 3) or type(thing[0]) is not str:
+            return False
+        if thing[0] == "prices" and len(thing) == 2 and ring_paper_by_hand(ring, thing[1]):
+            claimed = sum(stretches[i][3] for i in inside)
+            for moment, price in thing[1]:
+                claimed += price * benches - price * ring_load_by_hand(ring, inside, moment)
+            for i in range(len(stretches)):
+                if i not in decided:
+                    toll = sum(price for moment, price in thing[1] if moment in under_by_hand(ring, i))
+                    claimed += max(stretches[i][3] - toll, 0)
+            return claimed
+        if thing[0] == "crowd" and len(thing) == 2 and is_number_by_hand(thing[1], size):
+            return None if ring_load_by_hand(ring, inside, thing[1]) > benches else False
+        if thing[0] != "split" or len(thing) != 3 or not is_number_by_hand(thing[1], len(stretches)):
+            return False
+        if thing[1] in decided or type(thing[2]) is not list or len(thing[2]) != 2:
+            return False
+        beneath.extend([(thing[2][0], done + ((thing[1], True),)), (thing[2][1], done + ((thing[1], False),))])
+        return None
+
+    return told_of_tree(look, tree)
+
+
+def drawn_ring_tree(draw, ring, benches, done=()):
+    """A tree for a ring by a seeded source: done is a tuple of (number, whether in)."""
+    size, stretches = ring
+    inside = [i for i, is_in in done if is_in]
+    crowded = [moment for moment in range(size) if ring_load_by_hand(ring, inside, moment) > benches]
+    if crowded and draw.random() < 0.7:
+        return ("crowd", draw.choice(crowded))
+    free = [i for i in range(len(stretches)) if i not in [number for number, is_in in done]]
+    if free and draw.random() < 0.7:
+        i = draw.choice(free)
+        return ("split", i, [drawn_ring_tree(draw, ring, benches, done + ((i, is_in),)) for is_in in (True, False)])
+    return ("prices", [(moment, draw.randint(1, 9)) for moment in range(size) if draw.random() < 0.4])
+
+
+def tuples_in_tree(tree):
+    """How many tuples of a tree are walked, one that stands several times as often as it stands."""
+    return 1 + (sum(tuples_in_tree(beneath) for beneath in tree[2]) if type(tree[-1]) is list and len(tree) == 3 else 0)
+
+
+def drawn_wishes(draw, book, most=4):
+    benches = draw.randint(1, most)
+    return (benches, [[bench for bench in range(benches) if draw.random() < 0.6] for _ in book])
+
+
+def wishes_by_hand(book, thing):
+    """Whether anything is wishes for the book."""
+    if type(thing) is not tuple or len(thing) != 2 or type(thing[0]) is not int or thing[0] not in (1, 2, 3, 4):
+        return False
+    if type(thing[1]) is not list or len(thing[1]) != len(book):
+        return False
+    return all(type(one) is list and all(is_number_by_hand(bench, thing[0]) for bench in one)
+               and one == sorted(set(one)) for one in thing[1])
+
+
+def seating_by_hand(book, wishes, thing):
+    """Whether anything is a seating, each pair looked at."""
+    if type(thing) is not list or len(thing) != len(book):
+        return False
+    if not all(bench is None or type(bench) is int and bench in wishes[1][i] for i, bench in enumerate(thing)):
+        return False
+    return not any(thing[i] is not None and thing[i] == thing[k] and meet_by_hand(book[i], book[k])
+                   for k in range(len(book)) for i in range(k))
+
+
+def every_seating(book, wishes):
+    """All seatings of a small book."""
+    return [list(one) for one in product(*[[None] + wished for wished in wishes[1]])
+            if seating_by_hand(book, wishes, list(one))]
+
+
+def seating_worth_by_hand(book, seating):
+    return sum(stretch[3] for stretch, bench in zip(book, seating) if bench is not None)
+
+
+def bench_paper_by_hand(thing):
+    """Whether anything is a bench paper."""
+    if type(thing) is not list or len(thing) > 192:
+        return False
+    for part in thing:
+        if type(part) is not tuple or len(part) != 3 or [type(one) for one in part] != [int, int, int]:
+            return False
+        if part[0] not in (0, 1, 2, 3) or not -FAR <= part[1] < FAR or not 1 <= part[2] <= 10 * FAR:
+            return False
+    return all(one[0] < other[0] or one[0] == other[0] and one[1] < other[1] for one, other in zip(thing, thing[1:]))
+
+
+def bench_rest_by_hand(stretch, benches, paper):
+    tolls = [toll_by_hand(stretch, [(moment, price) for on, moment, price in paper if on == bench])
+             for bench in benches]
+    return max(0, stretch[3] - min(tolls)) if tolls else 0
+
+
+def bench_claim_by_hand(book, wishes, paper):
+    prices = sum(price for bench, moment, price in paper)
+    return prices + sum(bench_rest_by_hand(stretch, wishes[1][i], paper) for i, stretch in enumerate(book))
+
+
+def drawn_bench_paper(draw, last=9):
+    places = [(bench, moment) for bench in range(4) for moment in range(-last - 1, last + 1)]
+    return [(bench, moment, draw.randint(1, 9)) for bench, moment in sorted(draw.sample(places, draw.randint(0, 8)))]
+
+
+def wish_tree_by_hand(book, wishes, tree):
+    """What a tree for wishes claims, or the way to its first fault; done is a tuple of (number, bench or None)."""
+    benches, lists = wishes
+
+    def is_put(done, bench, asked):
+        return any(where == bench and asked(book[i]) for i, where in done)
+
+    def look(thing, done, beneath):
+        decided = [i for i, where in done]
+        if type(thing) is not tuple or len(thing) not in (2, 3) or type(thing[0]) is not str:
+            return False
+        if thing[0] == "prices" and len(thing) == 2 and bench_paper_by_hand(thing[1]):
+            claimed = sum(book[i][3] for i, where in done if where is not None)
+            for bench, moment, price in thing[1]:
+                if not is_put(done, bench, lambda one: one[1] <= moment < one[2]):
+                    claimed += price
+            for i in range(len(book)):
+                if i not in decided:
+                    free = [bench for bench in lists[i]
+                            if not is_put(done, bench, lambda one: meet_by_hand(one, book[i]))]
+                    claimed += bench_rest_by_hand(book[i], free, thing[1])
+            return claimed
+        if len(thing) != 3 or not is_number_by_hand(thing[1], len(book)):
+            return False
+        if thing[0] == "meet":
+            if not is_number_by_hand(thing[2], len(book)) or not thing[1] < thing[2]:
+                return False
+            where = dict(done)
+            on_one = where.get(thing[1]) is not None and where.get(thing[1]) == where.get(thing[2])
+            return None if on_one and meet_by_hand(book[thing[1]], book[thing[2]]) else False
+        if thing[0] != "sit" or thing[1] in decided or type(thing[2]) is not list:
+            return False
+        ways = lists[thing[1]] + [None]
+        if len(thing[2]) != len(ways):
+            return False
+        beneath.extend((thing[2][k], done + ((thing[1], ways[k]),)) for k in range(len(ways)))
+        return None
+
+    return told_of_tree(look, tree)
+
+
+def drawn_wish_tree(draw, book, wishes, done=()):
+    """A tree for wishes by a seeded source: done is a tuple of (number, bench or None)."""
+    meeting = [(i, k) for i, one in done for k, other in done
+               if i < k and one is not None and one == other and meet_by_hand(book[i], book[k])]
+    if meeting and draw.random() < 0.7:
+        return ("meet", *draw.choice(meeting))
+    free = [i for i in range(len(book)) if i not in [number for number, where in done]]
+    if free and len(done) < 3 and draw.random() < 0.7:
+        i = draw.choice(free)
+        ways = wishes[1][i] + [None]
+        return ("sit", i, [drawn_wish_tree(draw, book, wishes, done + ((i, where),)) for where in ways])
+    return ("prices", drawn_bench_paper(draw))
