@@ -3,7 +3,7 @@
 from benchworth.books import is_over, meet
 from benchworth.choices import worth_of
 from benchworth.forms import is_list_of, is_word_tuple
-from benchworth.names import is_whole_within
+from benchworth.names import is_whole, is_whole_within
 from benchworth.ringtrees import greatest_claim
 from benchworth.wishes import bench_rest, is_bench_paper, papers_by_bench
 
@@ -39,8 +39,7 @@ def prices_claim(book, wishes, done, paper):
 
 def is_meet(book, done, i, k):
     """Whether i and k, the lesser one first, are two stretches that are put on one bench and meet."""
-    last = len(book) - 1
-    if not is_whole_within(i, 0, last) or not is_whole_within(k, 0, last) or i >= k:
+    if not is_whole(i) or not is_whole(k) or i >= k:
         return False
     return done.get(i) is not None and done.get(i) == done.get(k) and meet(book[i], book[k])
 

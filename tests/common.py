@@ -434,6 +434,24 @@ def tuples_in_tree(tree):
     return 1 + (sum(tuples_in_tree(beneath) for beneath in tree[2]) if type(tree[-1]) is list and len(tree) == 3 else 0)
 
 
+def ways_of(tree):
+    """The ways to all tuples of a tree, in the order in which they are come to."""
+    found = [[]]
+    if tree[0] in ("split", "sit"):
+        for number, beneath in enumerate(tree[2]):
+            found.extend([number] + way for way in ways_of(beneath))
+    return found
+
+
+def with_at(tree, way, thing):
+    """The tree with another thing at the end of the way."""
+    if not way:
+        return thing
+    trees = [with_at(beneath, way[1:], thing) if number == way[0] else deepcopy(beneath)
+             for number, beneath in enumerate(tree[2])]
+    return (tree[0], tree[1], trees)
+
+
 def drawn_wishes(draw, book, most=4):
     benches = draw.randint(1, most)
     return (benches, [[bench for bench in range(benches) if draw.random() < 0.6] for _ in book])

@@ -7,7 +7,8 @@ from copy import deepcopy
 from benchworth.errors import NoTree
 from benchworth.ringtrees import tree_claim
 from tests.common import (FAR, NAMES, ODD_THINGS, SIXTY, Told, drawn_ring, drawn_ring_tree, otherwise,
-                          ring_choices_by_hand, ring_tree_by_hand, tuples_in_tree, worth_by_hand)
+                          ring_choices_by_hand, ring_tree_by_hand, tuples_in_tree, ways_of, with_at,
+                          worth_by_hand)
 
 # a is over 4, 5, 0 and 1, b over all six, c over 5, d over 2 to 5.
 RING = (6, [("a", 4, 4, 10), ("b", 3, 6, 20), ("c", 5, 1, 40), ("d", 2, 4, 5)])
@@ -32,24 +33,6 @@ def grown_tree(splits, first=0):
         return ("prices", [])
     half = (splits - 1) // 2
     return ("split", first, [grown_tree(splits - 1 - half, first + 1), grown_tree(half, first + 1)])
-
-
-def ways_of(tree):
-    """The ways to all tuples of a tree, in the order in which they are come to."""
-    found = [[]]
-    if tree[0] == "split":
-        for number, beneath in enumerate(tree[2]):
-            found.extend([number] + way for way in ways_of(beneath))
-    return found
-
-
-def with_at(tree, way, thing):
-    """The tree with another thing at the end of the way."""
-    if not way:
-        return thing
-    trees = [with_at(beneath, way[1:], thing) if number == way[0] else deepcopy(beneath)
-             for number, beneath in enumerate(tree[2])]
-    return (tree[0], tree[1], trees)
 
 
 class TreeCase(Told, unittest.TestCase):
@@ -253,10 +236,8 @@ class Refusals(TreeCase):
             benches = draw.choice([0, 1, 2])
             tree = drawn_ring_tree(draw, ring, benches)
             for _ in range(draw.randint(1, 3)):
-                thing = draw.choice([NOTHING, ("crowd", 0), ("crowd", 1), ("split", 0, [NOTHING, NOTHING]), None])
-                tree = with_at(tree, draw.choice(ways_of(tree)), thing) if tree is not None else None
-                if None in (tree, thing):
-                    break
+                thing = draw.choice([NOTHING, ("crowd", 0), ("crowd", 1), ("split", 0, [NOTHING, NOTHING]), ("x",)])
+                tree = with_at(tree, draw.choice(ways_of(tree)), thing)
             kind, expected = ring_tree_by_hand(ring, benches, tree)
             faults += kind == "way"
             if kind == "claims":

@@ -20,6 +20,13 @@ BARRED_WORDS = set("""type typing typing_extensions enum Enum IntEnum StrEnum Fl
 BARRED_PARTS = ("dataclass", "overload", "contextmanager")
 BARRED_NAMES = set("""register mro elements open input version_info with_traceback add_note format
     format_map""".split())
+UNUSED_NAMES = set("""attrgetter breakpoint builtins compile copyright credits delattr dir eval exec exit gc getattr
+    globals hasattr help id importlib license locals methodcaller os quit setattr sys type vars""".split())
+BUILTIN_METHODS = set("""append clear copy count endswith extend find get index insert isalnum isalpha isdigit islower
+    isspace isupper items join keys ljust lower lstrip partition pop remove replace reverse rfind rjust rpartition
+    rsplit rstrip setdefault split splitlines startswith strip update upper values zfill bit_length title capitalize
+    swapcase casefold center expandtabs removeprefix removesuffix rindex isascii isdecimal isnumeric istitle
+    isidentifier isprintable translate sort add discard""".split())
 BARRED_NODES = (ast.Global, ast.AsyncFunctionDef, ast.AsyncFor, ast.AsyncWith, ast.Await, ast.NamedExpr, ast.Div,
                 ast.MatMult, ast.Import)
 MODULE_NODES = (ast.ImportFrom, ast.FunctionDef, ast.ClassDef, ast.Assign, ast.AnnAssign)
@@ -130,6 +137,48 @@ class Rules(unittest.TestCase):
             for name in names - ALLOWED_DUNDERS:
                 self.assertFalse(name.startswith("_"), f"{path.name}: {name}")
                 self.assertNotIn(name, BARRED_NAMES, path.name)
+
+    def test_names_that_are_not_used(self):
+        for path, tree in self.trees.items():
+            self.assertEqual(bound_names(tree) & UNUSED_NAMES, set(), path.name)
+
+    def test_no_local_is_called_like_an_import_a_class_or_a_function(self):
+        for path, tree in self.trees.items():
+            bound = [node.name for node in tree.body if isinstance(node, (ast.ClassDef, ast.FunctionDef))]
+            bound += [alias.asname or alias.name for node in tree.body if isinstance(node, ast.ImportFrom)
+                      for alias in node.names]
+            self.assertEqual(len(bound), len(set(bound)), path.name)
+            self.assertEqual(local_names(tree) & set(bound), set(), path.name)
+
+    def test_module_level_names_are_bound_once(self):
+        for path, tree in self.trees.items():
+            names = [target.id for node in tree.body if isinstance(node, ast.Assign) for target in node.targets]
+            self.assertEqual(len(names), len(set(names)), path.name)
+
+    def test_methods_and_attributes(self):
+        methods, assigned, read, called = set(), set(), set(), set()
+        for place, node in self.each_node():
+            if isinstance(node, ast.ClassDef):
+                methods |= {part.name for part in node.body if isinstance(part, ast.FunctionDef)}
+            elif isinstance(node, ast.Call) and isinstance(node.func, ast.Attribute):
+                called.add(node.func.attr)
+            elif isinstance(node, ast.Attribute):
+                (assigned if isinstance(node.ctx, ast.Store) else read).add(node.attr)
+        self.assertEqual(methods & assigned, set())
+        self.assertEqual(called - BUILTIN_METHODS - methods - ALLOWED_DUNDERS, set())
+        self.assertEqual(read - assigned - called - ALLOWED_DUNDERS, set())
+        for name in (methods | assigned) - ALLOWED_DUNDERS:
+            self.assertFalse(any(hasattr(kind, name) for kind in (str, int, list, dict, set, bytes)), name)
+
+    def test_strings_have_plain_escapes_only(self):
+        for path, text in self.texts.items():
+            self.assertEqual(re.findall(r"\\[^nt\\'\"]", text), [], path.name)
+
+    def test_functions_have_plain_parameters(self):
+        for place, node in self.each_node():
+            if isinstance(node, (ast.FunctionDef, ast.Lambda)):
+                self.assertEqual(node.args.posonlyargs, [], place)
+                self.assertEqual(getattr(node, "decorator_list", []), [], place)
 
     def test_imports(self):
         defined = {}

@@ -2,12 +2,12 @@
 
 import random
 import unittest
-from copy import deepcopy
 
 from benchworth.errors import NoTree
 from benchworth.wishtrees import wish_claim
 from tests.common import (FAR, NAMES, ODD_THINGS, SIXTY, Told, drawn_books, drawn_wish_tree, drawn_wishes,
-                          every_seating, otherwise, seating_worth_by_hand, tuples_in_tree, wish_tree_by_hand)
+                          every_seating, otherwise, seating_worth_by_hand, tuples_in_tree, ways_of,
+                          wish_tree_by_hand, with_at)
 
 # a and b meet, b and c meet, a's end is c's begin; d is alone and has no bench.
 BOOK = [("a", 0, 5, 10), ("b", 3, 8, 20), ("c", 5, 9, 30), ("d", 20, 21, 40)]
@@ -19,24 +19,6 @@ NOTHING = ("prices", [])
 
 def nothings(many):
     return [("prices", []) for _ in range(many)]
-
-
-def ways_of(tree):
-    """The ways to all tuples of a tree, in the order in which they are come to."""
-    found = [[]]
-    if tree[0] == "sit":
-        for number, beneath in enumerate(tree[2]):
-            found.extend([number] + way for way in ways_of(beneath))
-    return found
-
-
-def with_at(tree, way, thing):
-    """The tree with another thing at the end of the way."""
-    if not way:
-        return thing
-    trees = [with_at(beneath, way[1:], thing) if number == way[0] else deepcopy(beneath)
-             for number, beneath in enumerate(tree[2])]
-    return (tree[0], tree[1], trees)
 
 
 def put_so(wishes, done, thing):
